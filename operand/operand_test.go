@@ -211,14 +211,12 @@ func (o model) Read(a api.Operand, bytes int) (uint32, api.Fault, bool) {
 	return o.s.R[o.which(a.Reg)-4] / 256 % 256, api.Fault{}, true
 }
 
-// Write tells the state behind it and changes the model's memory.
+// Write tells the state behind it, also where it can't be, and changes the model's memory.
 func (o model) Write(a api.Operand, bytes int, v uint32) (api.State, api.Fault, bool) {
 	n, s := o.number(bytes), o.s
 	if a.Kind == api.KMem {
-		if f, ok := o.store(o.Place(a), n, uint64(v)); !ok {
-			return api.State{}, f, false
-		}
-		return s, api.Fault{}, true
+		f, ok := o.store(o.Place(a), n, uint64(v))
+		return s, f, ok
 	}
 	if i := o.which(a.Reg); a.Kind == api.KReg && i >= 0 {
 		switch {
@@ -894,7 +892,7 @@ func TestWhatIsWrittenIsReadP12_1(t *testing.T) {
 	}
 }
 
-// Beside a fault nothing else is told, and nothing is touched, wherever the place is.
+// Beside a fault the state is as it was, and nothing is touched, wherever the place is.
 func TestFaultsTouchNothingP12_2(t *testing.T) {
 	m := holed(t)
 	before, faults := shotOf(m), 0
@@ -903,7 +901,7 @@ func TestFaultsTouchNothingP12_2(t *testing.T) {
 			c := m.Copy()
 			if s, f, ok := Write(c, sample, at(place), bytes, ^place); !ok {
 				faults++
-				if s != (api.State{}) || f.Kind != api.FPage || f.PC != 0 || f.Want != w || f.Addr-place > 3 || !c.Same(m) {
+				if s != sample || f.Kind != api.FPage || f.PC != 0 || f.Want != w || f.Addr-place > 3 || !c.Same(m) {
 					t.Fatalf("Write(%#x, %d): %v, %+v, and something is changed", place, bytes, f, s)
 				}
 			}
@@ -926,6 +924,65 @@ func TestFaultsTouchNothingP12_2(t *testing.T) {
 		t.Error("no faults")
 	}
 	is(t, m, before, "read and asked at all places")
+}
+
+// refused fails, if a word or a byte can be written to o, if the fault is another one, or if the
+// state behind it or the memory isn't as it was.
+func refused(t *testing.T, m *page.Memory, s api.State, o api.Operand, bytes int, v uint32, first uint32) {
+	t.Helper()
+	before := shotOf(m)
+	got, f, ok := Write(m, s, o, bytes, v)
+	if want := (api.Fault{Kind: api.FPage, Addr: first, Want: w}); f != want || ok {
+		t.Errorf("Write(%v, %d, %#x): %v, %v, want %v", o, bytes, v, f, ok, want)
+	}
+	if got != s {
+		t.Errorf("Write(%v, %d, %#x): the state behind it is %+v, want %+v", o, bytes, v, got, s)
+	}
+	is(t, m, before, "Write", o, bytes, v)
+}
+
+// Beside a fault the state is told as it was: every register, flag, the direction, the place, the
+// number; whether the first byte or a later one can't be written, for whatever right of its page.
+func TestStateBesideAFaultP12_2(t *testing.T) {
+	all := api.Flags{CF: true, PF: true, AF: true, ZF: true, SF: true, OF: true}
+	states := []api.State{{}, sample, {R: [8]uint32{0x01020304}, PC: 9}, {DF: true}, {F: 1 << 63}, {F: 1}, {Fl: all}, {PC: 0xffffffff}}
+	for i := range 8 {
+		s := api.State{}
+		s.R[i] = 0x80000001
+		states = append(states, s)
+	}
+	for _, rights := range []int{0, r, x, r | x} {
+		m := mapped(t, 4, rw, rights)
+		for _, s := range states {
+			for _, v := range []uint32{0, 5, 0xffffffff, 0x01020304} {
+				refused(t, m, s, at(1280), 1, v, 1280)
+				refused(t, m, s, at(1535), 1, v, 1535)
+				for _, bytes := range asFour {
+					for off := uint32(1); off < 4; off++ {
+						refused(t, m, s, at(1280-off), bytes, v, 1280)
+					}
+					refused(t, m, s, at(1280), bytes, v, 1280)
+					refused(t, m, s, at(1532), bytes, v, 1532)
+					refused(t, m, s, at(1535), bytes, v, 1535)
+				}
+			}
+		}
+	}
+}
+
+// Likewise where registers tell the place, and where it is far from all pages.
+func TestStateBesideAFaultByRegistersP12_2(t *testing.T) {
+	m := mapped(t, 0, rw, r)
+	s := sample
+	s.R[api.EBX], s.R[api.ECX] = 200, 18
+	refused(t, m, s, mem(api.EBX, api.ECX, 2, 17), 4, 5, 256)
+	refused(t, m, s, mem(api.EBX, api.ECX, 4, 0), 1, 5, 272)
+	refused(t, m, s, mem(api.EBX, -1, 1, 54), 4, 5, 256)
+	refused(t, m, s, mem(-1, api.EBX, 2, 0), 4, 5, 400)
+	refused(t, m, sample, mem(api.ESI, api.EDI, 8, 1), 4, 5, 0x2b2a2928+8*0x2f2e2d2c-1<<32+1)
+	refused(t, m, sample, at(0xffffffff), 4, 5, 0xffffffff)
+	refused(t, m, sample, at(api.GuestSize-2), 4, 5, api.GuestSize-2)
+	refused(t, whole(t, rwx), sample, at(api.GuestSize-2), 4, 5, api.GuestSize)
 }
 
 // Of eight bytes across two pages that can be written and not, each split of them.
